@@ -1,0 +1,1 @@
+"""Shuffletold: orders drawn at random, told by exact shares."""

@@ -1,0 +1,88 @@
+"""What several tests need: orders to go through, and what may be told and handed in."""
+
+from itertools import permutations
+
+
+def orders_of(many):
+    """All orders of so many things, made without the program."""
+    return list(permutations(range(many)))
+
+
+def orders_to(many):
+    """All orders of at most so many things."""
+    return [order for size in range(many + 1) for order in orders_of(size)]
+
+
+def stepped(many, step, start):
+    """An order of so many things that goes on by step, which shares no divisor with many."""
+    order = tuple((start + step * place) % many for place in range(many))
+    assert sorted(order) == list(range(many))
+    return order
+
+
+def long_orders():
+    """Orders of 60 things and of somewhat more, of unlike forms."""
+    found = []
+    for many in (59, 60, 61, 64, 67):
+        found.append(tuple(range(many)))
+        found.append(tuple(range(many))[::-1])
+        found.append(stepped(many, 7, 3))
+        found.append(stepped(many, many - 1, 5))
+        found.append(tuple(range(many // 2, many)) + tuple(range(many // 2)))
+        found.append(tuple(place ^ 1 if place ^ 1 < many else place for place in range(many)))
+    return found
+
+
+def is_told(thing):
+    """Whether thing is of the kinds that the program tells: nothing under them, and no list within."""
+    if type(thing) is tuple:
+        return all(is_told(inner) for inner in thing)
+    return thing is None or type(thing) in (str, int, bool)
+
+
+def is_told_order(thing):
+    """Whether thing is told as an order is: a tuple of whole numbers that are no truths."""
+    return type(thing) is tuple and all(type(number) is int for number in thing)
+
+
+def nested(depth, wrap, inmost):
+    """The inmost thing, wrapped so many times."""
+    thing = inmost
+    for _ in range(depth):
+        thing = wrap(thing)
+    return thing
+
+
+def wrong_things():
+    """Things of every kind that are no order, made anew at each call."""
+    wraps = (
+        lambda inner: (inner,),
+        lambda inner: [inner],
+        lambda inner: {0: inner},
+        lambda inner: (0, inner),
+        lambda inner: (inner, 0),
+    )
+    deep = [
+        nested(depth, wrap, inmost)
+        for depth in (1, 2, 59, 60)
+        for wrap in wraps
+        for inmost in ((), [], {}, None, "", True, 1, (0,), (1, 0))
+    ]
+    # ((0,),) and its kin are wrong, but (1, 0) and (0, 1) are orders.
+    deep = [thing for thing in deep if thing not in ((1, 0), (0, 1))]
+    return deep + [
+        None, True, False, 0, 1, -1, 60, 10 ** 1000, -10 ** 1000,
+        "", "0", "01", "-", "()", "(0, 1)", b"", b"\x00", b"\x00\x01",
+        [], [0], [0, 1], [[0]], [()], [(0,)],
+        {}, {0: 0}, {0: 0, 1: 1}, {(): ()}, set(), {0}, {0, 1}, frozenset(), frozenset([0]),
+        range(0), range(3), bytearray(b"\x00"),
+        (True,), (False,), (False, True), (0, True), (False, 1), (1, False), (True, 0), (0, 1, True), (2, 1, False),
+        (-1,), (-1, 0), (0, -1), (-2, -1), (-1, -2, -3), (1, -1, 0), (0, 1, -10 ** 30),
+        (1,), (2,), (1, 2), (0, 2), (2, 0), (3, 1, 0), (0, 1, 2, 4), (10 ** 1000,), (0, 10 ** 1000), (0, 2 ** 64),
+        (0, 0), (1, 1), (0, 0, 1), (0, 1, 1), (2, 0, 2), (0, 1, 2, 0),
+        ("0",), ("",), ("a",), (0, "1"), ("0", "1"), ("01",), (b"\x00",), (0, b"\x01"),
+        (None,), (0, None), (None, 0), (None, None),
+        ((),), ((0,),), (((),),), (0, (1,)), ((0, 1),), ((0,), (1,)), (0, ()), ((), 0), (0, 1, (2,)),
+        ([],), ([0],), (0, [1]), ([0], 1), ([], []),
+        ({},), ({0: 0},), (0, {}), ({}, 0), ({0: 1}, {1: 0}), (set(),), (frozenset(),), (0, {1}),
+    ]
