@@ -1,6 +1,10 @@
 """What several tests need: orders to go through, and what may be told and handed in."""
 
 from itertools import permutations
+from math import gcd
+
+KINDS = ("rounds", "stays", "rises", "highs", "crossed", "longest")
+STEP_KINDS = KINDS[:5]
 
 
 def orders_of(many):
@@ -43,6 +47,11 @@ def is_told(thing):
 def is_told_order(thing):
     """Whether thing is told as an order is: a tuple of whole numbers that are no truths."""
     return type(thing) is tuple and all(type(number) is int for number in thing)
+
+
+def is_told_share(thing):
+    """Whether thing is told as a share is: a pair of whole numbers in lowest terms, under from 1 on."""
+    return is_told_order(thing) and len(thing) == 2 and thing[1] >= 1 and gcd(thing[0], thing[1]) == 1
 
 
 def nested(depth, wrap, inmost):

@@ -2,9 +2,7 @@ import unittest
 from itertools import combinations
 
 from shuffletold.counts import count
-from tests.helper import long_orders, orders_of, orders_to
-
-KINDS = ("rounds", "stays", "rises", "highs", "crossed", "longest")
+from tests.helper import KINDS, long_orders, orders_of, orders_to
 
 
 def rounds_by_words(order):

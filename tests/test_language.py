@@ -91,6 +91,15 @@ def own_attributes():
     return found
 
 
+def is_walk(node):
+    """Whether node is a call of what is walked on the spot: zip, range and their kin."""
+    if not isinstance(node, ast.Call):
+        return False
+    if isinstance(node.func, ast.Name):
+        return node.func.id in ("zip", "enumerate", "reversed", "range")
+    return isinstance(node.func, ast.Attribute) and node.func.attr in ("items", "keys", "values")
+
+
 class Files(unittest.TestCase):
     def test_only_plain_files_lie_in_the_package(self):
         for path in PACKAGE.iterdir():
@@ -172,6 +181,29 @@ class Code(unittest.TestCase):
             for node in ast.walk(tree):
                 if isinstance(node, ast.Attribute):
                     self.assertIn(node.attr, known, (name, node.lineno))
+
+    def test_texts_without_a_percent_sign_and_powers_by_written_exponents(self):
+        for name, tree in trees().items():
+            for node in ast.walk(tree):
+                if isinstance(node, ast.Constant) and isinstance(node.value, (str, bytes)):
+                    self.assertNotIn("%", str(node.value), (name, node.lineno))
+                elif isinstance(node, (ast.BinOp, ast.AugAssign)) and isinstance(node.op, ast.Pow):
+                    exponent = node.right if isinstance(node, ast.BinOp) else node.value
+                    self.assertIsInstance(exponent, ast.Constant, (name, node.lineno))
+                    self.assertIn(exponent.value, range(65), (name, node.lineno))
+
+    def test_what_is_walked_at_once_is_not_kept(self):
+        for name, tree in trees().items():
+            for node in ast.walk(tree):
+                if isinstance(node, (ast.Assign, ast.Return)) and is_walk(node.value):
+                    self.fail((name, node.lineno))
+
+    def test_tops_that_are_kept_hold_no_list_or_dict(self):
+        for name, tree in trees().items():
+            for node in tree.body:
+                if isinstance(node, ast.Assign) and isinstance(node.value, (ast.List, ast.Dict)):
+                    for inner in list(ast.walk(node.value))[1:]:
+                        self.assertNotIsInstance(inner, (ast.List, ast.Dict, ast.Set), (name, node.lineno))
 
     def test_is_stands_beside_none_true_and_false(self):
         for name, tree in trees().items():

@@ -1,0 +1,26 @@
+"""Shares: tuples (over, under) of whole numbers in lowest terms, under from 1 on."""
+
+
+def share_of(over, under):
+    """The share that is over parted by under, which is 1 or more."""
+    both = greatest_divisor(over, under)
+    return (over // both, under // both)
+
+
+def less(one, other):
+    """One less other, both shares."""
+    return share_of(one[0] * other[1] - other[0] * one[1], one[1] * other[1])
+
+
+def times(one, other):
+    """The product of two shares."""
+    return share_of(one[0] * other[0], one[1] * other[1])
+
+
+def greatest_divisor(over, under):
+    """The greatest number that parts both without a rest, under being 1 or more."""
+    # A rest by a number above 0 is never below 0, so neither is what is told, whatever over is.
+    one, other = over, under
+    while other != 0:
+        one, other = other, one % other
+    return one

@@ -1,0 +1,62 @@
+import unittest
+from fractions import Fraction
+
+from shuffletold.shares import less, share_of, times
+from tests.helper import is_told_share
+
+NUMBERS = tuple(range(-13, 14)) + (60, -60, 10 ** 30, -10 ** 30, 2 ** 64 * 3 ** 5, -6 ** 40)
+UNDERS = tuple(range(1, 14)) + (60, 10 ** 30, 6 ** 41)
+
+
+def as_fraction(share):
+    return Fraction(share[0], share[1])
+
+
+class ShareOf(unittest.TestCase):
+    def test_plain_ones(self):
+        self.assertEqual(share_of(1, 2), (1, 2))
+        self.assertEqual(share_of(6, 4), (3, 2))
+        self.assertEqual(share_of(4, 2), (2, 1))
+        self.assertEqual(share_of(-6, 4), (-3, 2))
+        self.assertEqual(share_of(-4, 4), (-1, 1))
+
+    def test_nothing_is_none_over_one(self):
+        for under in UNDERS:
+            self.assertEqual(share_of(0, under), (0, 1))
+
+    def test_all_is_one_over_one(self):
+        for under in UNDERS:
+            self.assertEqual(share_of(under, under), (1, 1))
+
+    def test_lowest_terms_of_the_same_worth(self):
+        for over in NUMBERS:
+            for under in UNDERS:
+                found = share_of(over, under)
+                self.assertTrue(is_told_share(found), (over, under, found))
+                self.assertEqual(found[0] * under, over * found[1])
+
+
+class LessAndTimes(unittest.TestCase):
+    def test_plain_ones(self):
+        self.assertEqual(less((1, 2), (1, 3)), (1, 6))
+        self.assertEqual(less((1, 3), (1, 2)), (-1, 6))
+        self.assertEqual(less((5, 6), (5, 6)), (0, 1))
+        self.assertEqual(less((1, 2), (-1, 2)), (1, 1))
+        self.assertEqual(times((2, 3), (3, 4)), (1, 2))
+        self.assertEqual(times((-2, 3), (3, 2)), (-1, 1))
+        self.assertEqual(times((0, 1), (3, 2)), (0, 1))
+
+    def test_every_two_of_some(self):
+        shares = [share_of(over, under) for over in NUMBERS[::3] for under in UNDERS[::3]]
+        for one in shares:
+            for other in shares:
+                for found, wanted in (
+                    (less(one, other), as_fraction(one) - as_fraction(other)),
+                    (times(one, other), as_fraction(one) * as_fraction(other)),
+                ):
+                    self.assertTrue(is_told_share(found), (one, other, found))
+                    self.assertEqual(as_fraction(found), wanted)
+
+
+if __name__ == "__main__":
+    unittest.main()
