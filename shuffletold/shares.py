@@ -7,6 +7,11 @@ def share_of(over, under):
     return (over // both, under // both)
 
 
+def plus(one, other):
+    """One and other, both shares, together."""
+    return share_of(one[0] * other[1] + other[0] * one[1], one[1] * other[1])
+
+
 def less(one, other):
     """One less other, both shares."""
     return share_of(one[0] * other[1] - other[0] * one[1], one[1] * other[1])

@@ -1,7 +1,8 @@
 """What several tests need: orders to go through, and what may be told and handed in."""
 
-from itertools import permutations
+from itertools import permutations, product
 from math import gcd
+from random import Random
 
 KINDS = ("rounds", "stays", "rises", "highs", "crossed", "longest")
 STEP_KINDS = KINDS[:5]
@@ -35,6 +36,28 @@ def long_orders():
         found.append(tuple(range(many // 2, many)) + tuple(range(many // 2)))
         found.append(tuple(place ^ 1 if place ^ 1 < many else place for place in range(many)))
     return found
+
+
+def drawn_orders(seed, sizes):
+    """An order of each of these sizes, the same at each run."""
+    draw = Random(seed)
+    return [tuple(draw.sample(range(many), many)) for many in sizes]
+
+
+def throws_of_all(many):
+    """All throws of so many things, rising, made without the program."""
+    return list(product(*[range(place + 1) for place in range(many)]))
+
+
+def drawn_throws(seed, sizes):
+    """Throws of each of these sizes, the same at each run."""
+    draw = Random(seed)
+    return [tuple(draw.randrange(place + 1) for place in range(many)) for many in sizes]
+
+
+def otherwise(things, wrongs):
+    """The tuple of things again and again, with each of wrongs in the place of each of them."""
+    return [things[:at] + (wrong,) + things[at + 1:] for at in range(len(things)) for wrong in wrongs]
 
 
 def is_told(thing):

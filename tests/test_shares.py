@@ -1,7 +1,7 @@
 import unittest
 from fractions import Fraction
 
-from shuffletold.shares import less, share_of, times
+from shuffletold.shares import less, plus, share_of, times
 from tests.helper import is_told_share
 
 NUMBERS = tuple(range(-13, 14)) + (60, -60, 10 ** 30, -10 ** 30, 2 ** 64 * 3 ** 5, -6 ** 40)
@@ -36,8 +36,11 @@ class ShareOf(unittest.TestCase):
                 self.assertEqual(found[0] * under, over * found[1])
 
 
-class LessAndTimes(unittest.TestCase):
+class PlusLessAndTimes(unittest.TestCase):
     def test_plain_ones(self):
+        self.assertEqual(plus((1, 2), (1, 3)), (5, 6))
+        self.assertEqual(plus((1, 2), (1, 2)), (1, 1))
+        self.assertEqual(plus((1, 2), (-1, 2)), (0, 1))
         self.assertEqual(less((1, 2), (1, 3)), (1, 6))
         self.assertEqual(less((1, 3), (1, 2)), (-1, 6))
         self.assertEqual(less((5, 6), (5, 6)), (0, 1))
@@ -51,6 +54,7 @@ class LessAndTimes(unittest.TestCase):
         for one in shares:
             for other in shares:
                 for found, wanted in (
+                    (plus(one, other), as_fraction(one) + as_fraction(other)),
                     (less(one, other), as_fraction(one) - as_fraction(other)),
                     (times(one, other), as_fraction(one) * as_fraction(other)),
                 ):
