@@ -118,3 +118,37 @@ def wrong_things():
         ([],), ([0],), (0, [1]), ([0], 1), ([], []),
         ({},), ({0: 0},), (0, {}), ({}, 0), ({0: 1}, {1: 0}), (set(),), (frozenset(),), (0, {1}),
     ]
+
+
+def drawn_machines(seed, sizes):
+    """A machine of each of these numbers of states, the same at each run."""
+    draw = Random(seed)
+    found = []
+    for states in sizes:
+        rows = tuple(tuple(draw.randrange(states) for _ in range(4)) for _ in range(states))
+        found.append((rows, tuple(state for state in range(states) if draw.randrange(2))))
+    return found
+
+
+def marks_by_words(order):
+    """The marks of an order, by the document's words."""
+    found = []
+    for place in range(1, len(order)):
+        here, ahead = order[place], order[:place]
+        if all(here > number for number in ahead):
+            found.append(3)
+        elif here > order[place - 1]:
+            found.append(2)
+        elif all(here < number for number in ahead):
+            found.append(0)
+        else:
+            found.append(1)
+    return tuple(found)
+
+
+def is_met(machine, order):
+    """Whether machine meets order, by the document's words."""
+    state = 0
+    for mark in marks_by_words(order):
+        state = machine[0][state][mark]
+    return state in machine[1]
