@@ -4,6 +4,7 @@ from shuffletold.beginnings import nth_by, numbers_left, place_by
 from shuffletold.counts import count, crossed_in, highs_in, rises_in, stays_in
 from shuffletold.steprows import next_row, number_at
 from shuffletold.told import told
+from shuffletold.wholes import product
 
 # An ending tells of a beginning the count that it has by itself, whatever comes behind it, and a row: how many
 # orders go on from it with 0, 1, .. beyond that.
@@ -76,14 +77,6 @@ def crossed_ending(many, begun):
     left = numbers_left(many, begun)
     behind = sum([1 for ahead in begun for number in left if number < ahead])
     return (crossed_in(begun) + behind, told("crossed", len(left)))
-
-
-def product(first, last):
-    """The product of the numbers from first to last, 1 of none."""
-    found = 1
-    for number in range(first, last + 1):
-        found = found * number
-    return found
 
 
 ENDINGS = {

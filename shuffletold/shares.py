@@ -22,6 +22,26 @@ def times(one, other):
     return share_of(one[0] * other[0], one[1] * other[1])
 
 
+def parted(one, other):
+    """One, a share, parted by other, a share above 0."""
+    return share_of(one[0] * other[1], one[1] * other[0])
+
+
+def is_less(one, other):
+    """Whether one is less than other, both shares."""
+    return one[0] * other[1] < other[0] * one[1]
+
+
+def lesser(one, other):
+    """The lesser one of two shares."""
+    return other if is_less(other, one) else one
+
+
+def greater(one, other):
+    """The greater one of two shares."""
+    return other if is_less(one, other) else one
+
+
 def greatest_divisor(over, under):
     """The greatest number that parts both without a rest, under being 1 or more."""
     # A rest by a number above 0 is never below 0, so neither is what is told, whatever over is.

@@ -1,5 +1,6 @@
 """What several tests need: orders to go through, and what may be told and handed in."""
 
+from fractions import Fraction
 from itertools import permutations, product
 from math import gcd
 from random import Random
@@ -75,6 +76,23 @@ def is_told_order(thing):
 def is_told_share(thing):
     """Whether thing is told as a share is: a pair of whole numbers in lowest terms, under from 1 on."""
     return is_told_order(thing) and len(thing) == 2 and thing[1] >= 1 and gcd(thing[0], thing[1]) == 1
+
+
+def as_fraction(share):
+    return Fraction(share[0], share[1])
+
+
+def as_share(fraction):
+    return (fraction.numerator, fraction.denominator)
+
+
+def mean_and_spread(kind, many):
+    """The mean and the spread of rises, or of crossed, by the known formulas."""
+    if many < 2:
+        return Fraction(0), Fraction(0)
+    if kind == "rises":
+        return Fraction(many - 1, 2), Fraction(many + 1, 12)
+    return Fraction(many * (many - 1), 4), Fraction(many * (many - 1) * (2 * many + 5), 72)
 
 
 def nested(depth, wrap, inmost):

@@ -1,15 +1,10 @@
 import unittest
-from fractions import Fraction
 
-from shuffletold.shares import less, plus, share_of, times
-from tests.helper import is_told_share
+from shuffletold.shares import greater, is_less, less, lesser, parted, plus, share_of, times
+from tests.helper import as_fraction, is_told_share
 
 NUMBERS = tuple(range(-13, 14)) + (60, -60, 10 ** 30, -10 ** 30, 2 ** 64 * 3 ** 5, -6 ** 40)
 UNDERS = tuple(range(1, 14)) + (60, 10 ** 30, 6 ** 41)
-
-
-def as_fraction(share):
-    return Fraction(share[0], share[1])
 
 
 class ShareOf(unittest.TestCase):
@@ -36,7 +31,7 @@ class ShareOf(unittest.TestCase):
                 self.assertEqual(found[0] * under, over * found[1])
 
 
-class PlusLessAndTimes(unittest.TestCase):
+class PlusLessTimesAndParted(unittest.TestCase):
     def test_plain_ones(self):
         self.assertEqual(plus((1, 2), (1, 3)), (5, 6))
         self.assertEqual(plus((1, 2), (1, 2)), (1, 1))
@@ -48,6 +43,9 @@ class PlusLessAndTimes(unittest.TestCase):
         self.assertEqual(times((2, 3), (3, 4)), (1, 2))
         self.assertEqual(times((-2, 3), (3, 2)), (-1, 1))
         self.assertEqual(times((0, 1), (3, 2)), (0, 1))
+        self.assertEqual(parted((2, 3), (4, 3)), (1, 2))
+        self.assertEqual(parted((-2, 3), (2, 1)), (-1, 3))
+        self.assertEqual(parted((0, 1), (3, 2)), (0, 1))
 
     def test_every_two_of_some(self):
         shares = [share_of(over, under) for over in NUMBERS[::3] for under in UNDERS[::3]]
@@ -60,6 +58,19 @@ class PlusLessAndTimes(unittest.TestCase):
                 ):
                     self.assertTrue(is_told_share(found), (one, other, found))
                     self.assertEqual(as_fraction(found), wanted)
+                if other[0] > 0:
+                    found = parted(one, other)
+                    self.assertTrue(is_told_share(found), (one, other, found))
+                    self.assertEqual(as_fraction(found), as_fraction(one) / as_fraction(other))
+
+
+class Compared(unittest.TestCase):
+    def test_every_two_of_some(self):
+        shares = [share_of(over, under) for over in NUMBERS[::3] for under in UNDERS[::3]]
+        for one in shares:
+            for other in shares:
+                self.assertIs(is_less(one, other), as_fraction(one) < as_fraction(other), (one, other))
+                self.assertEqual([lesser(one, other), greater(one, other)], sorted([one, other], key=as_fraction))
 
 
 if __name__ == "__main__":
