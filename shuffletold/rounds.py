@@ -16,11 +16,16 @@ def written(order):
 
 def unwritten(order):
     """The order of which order is written."""
-    numbers = [0] * len(order)
-    for row in cut_at_highs(order):
-        for at, number in enumerate(row):
-            # At 0 the one ahead is row[-1]: the first stands at the last.
-            numbers[row[at - 1]] = number
+    return joined(cut_at_highs(order), len(order))
+
+
+def joined(rounds, many):
+    """The order of so many things that has these rounds, which have each number below many once."""
+    numbers = [0] * many
+    for found in rounds:
+        for at, number in enumerate(found):
+            # At 0 the one ahead is found[-1]: the first stands at the last.
+            numbers[found[at - 1]] = number
     return tuple(numbers)
 
 

@@ -1,5 +1,14 @@
 """Shares: tuples (over, under) of whole numbers in lowest terms, under from 1 on."""
 
+from shuffletold.wholes import are_wholes
+
+
+def is_share(thing):
+    """Whether thing, which may be anything, is a share."""
+    if not are_wholes(thing) or len(thing) != 2:
+        return False
+    return thing[1] >= 1 and greatest_divisor(thing[0], thing[1]) == 1
+
 
 def share_of(over, under):
     """The share that is over parted by under, which is 1 or more."""

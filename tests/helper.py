@@ -1,6 +1,7 @@
 """What several tests need: orders to go through, and what may be told and handed in."""
 
 from fractions import Fraction
+from functools import lru_cache
 from itertools import permutations, product
 from math import gcd
 from random import Random
@@ -170,3 +171,34 @@ def is_met(machine, order):
     for mark in marks_by_words(order):
         state = machine[0][state][mark]
     return state in machine[1]
+
+
+def best_of_all_ways(many, hands):
+    """The greatest share of winning of all ways to play, all that was seen kept in mind."""
+
+    @lru_cache(maxsize=None)
+    def won(seen, left, held):
+        # seen is how the things so far stand among themselves; held, whether their greatest has a hand on it.
+        if len(seen) == many:
+            return Fraction(held)
+        total = Fraction(0)
+        for rank in range(len(seen) + 1):
+            later = tuple(other + (other >= rank) for other in seen) + (rank,)
+            highest = rank == len(seen)
+            found = won(later, left, held and not highest)
+            if left:
+                found = max(found, won(later, left - 1, held or highest))
+            total += found
+        return total / (len(seen) + 1)
+
+    return won((), hands, False)
+
+
+def is_won(plan, order):
+    """Whether the play by plan is won, by the document's words."""
+    left, laid = len(plan), []
+    for place, number in enumerate(order):
+        if left and number == max(order[:place + 1]) and place in plan[left - 1]:
+            laid.append(number)
+            left -= 1
+    return max(order) in laid

@@ -1,7 +1,7 @@
 import unittest
 
-from shuffletold.shares import greater, is_less, less, lesser, parted, plus, share_of, times
-from tests.helper import as_fraction, is_told_share
+from shuffletold.shares import greater, is_less, is_share, less, lesser, parted, plus, share_of, times
+from tests.helper import as_fraction, is_told_share, wrong_things
 
 NUMBERS = tuple(range(-13, 14)) + (60, -60, 10 ** 30, -10 ** 30, 2 ** 64 * 3 ** 5, -6 ** 40)
 UNDERS = tuple(range(1, 14)) + (60, 10 ** 30, 6 ** 41)
@@ -62,6 +62,27 @@ class PlusLessTimesAndParted(unittest.TestCase):
                     found = parted(one, other)
                     self.assertTrue(is_told_share(found), (one, other, found))
                     self.assertEqual(as_fraction(found), as_fraction(one) / as_fraction(other))
+
+
+class IsShare(unittest.TestCase):
+    def test_plain_ones(self):
+        for thing in ((0, 1), (1, 1), (1, 2), (-1, 2), (3, 2), (-7, 12), (10 ** 2000 + 1, 10 ** 2000)):
+            self.assertIs(is_share(thing), True)
+        for thing in (
+            (0, 0), (0, 2), (2, 2), (2, 4), (-2, 4), (1, 0), (1, -1), (-1, -2), (0, -1), (True, 1), (1, True),
+            (False, 1), (0, 1, 1), (1,), (), [1, 2], ("1", "2"), (1, "2"), (None, 1), (1, None), ((1, 2),),
+            ((1,), (2,)), "1/2", 1, None,
+        ):
+            self.assertIs(is_share(thing), False, thing)
+
+    def test_every_two_of_some(self):
+        for over in NUMBERS:
+            for under in NUMBERS:
+                self.assertIs(is_share((over, under)), is_told_share((over, under)), (over, under))
+
+    def test_things_of_every_kind(self):
+        for thing in wrong_things():
+            self.assertIs(is_share(thing), is_told_share(thing), thing)
 
 
 class Compared(unittest.TestCase):

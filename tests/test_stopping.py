@@ -1,9 +1,10 @@
 import unittest
 from fractions import Fraction
-from functools import lru_cache
 
 from shuffletold.stopping import best_share, rule, table
-from tests.helper import as_fraction, as_share, is_told, is_told_order, is_told_share, orders_of
+from tests.helper import (
+    as_fraction, as_share, best_of_all_ways, is_told, is_told_order, is_told_share, is_won, orders_of
+)
 
 SIZES = [(many, hands) for many in range(1, 41) for hands in range(5)]
 BEYOND = [(41, 4), (45, 2), (40, 5), (50, 6), (3, 7), (61, 3)]
@@ -28,27 +29,6 @@ def one_hand_from(many, first):
     if first == 0:
         return Fraction(1, many)
     return Fraction(first, many) * sum(Fraction(1, place) for place in range(first, many))
-
-
-def best_of_all_ways(many, hands):
-    """The greatest share of winning of all ways to play, all that was seen kept in mind."""
-
-    @lru_cache(maxsize=None)
-    def won(seen, left, held):
-        # seen is how the things so far stand among themselves; held, whether their greatest has a hand on it.
-        if len(seen) == many:
-            return Fraction(held)
-        total = Fraction(0)
-        for rank in range(len(seen) + 1):
-            later = tuple(other + (other >= rank) for other in seen) + (rank,)
-            highest = rank == len(seen)
-            found = won(later, left, held and not highest)
-            if left:
-                found = max(found, won(later, left - 1, held or highest))
-            total += found
-        return total / (len(seen) + 1)
-
-    return won((), hands, False)
 
 
 class Table(unittest.TestCase):
@@ -140,14 +120,7 @@ class Rule(unittest.TestCase):
         for many in range(1, 7):
             for hands in range(5):
                 plan = rule(many, hands)
-                won = 0
-                for order in orders_of(many):
-                    left, laid = hands, []
-                    for place, number in enumerate(order):
-                        if left and number == max(order[:place + 1]) and place in plan[left - 1]:
-                            laid.append(number)
-                            left -= 1
-                    won += many - 1 in laid
+                won = sum(is_won(plan, order) for order in orders_of(many))
                 self.assertEqual(Fraction(won, len(orders_of(many))), as_fraction(best_share(many, hands)))
 
 
