@@ -2,8 +2,11 @@
 
 import ast
 import builtins
+import io
 import re
+import tokenize
 import unittest
+from functools import lru_cache
 from pathlib import Path
 
 PACKAGE = Path(__file__).resolve().parent.parent / "shuffletold"
@@ -45,10 +48,12 @@ WORDS = re.compile(
 )
 
 
+@lru_cache(maxsize=None)
 def sources():
     return {path.stem: path.read_text(encoding="utf-8") for path in sorted(PACKAGE.glob("*.py"))}
 
 
+@lru_cache(maxsize=None)
 def trees():
     return {name: ast.parse(text) for name, text in sources().items()}
 
@@ -98,6 +103,74 @@ def is_walk(node):
     if isinstance(node.func, ast.Name):
         return node.func.id in ("zip", "enumerate", "reversed", "range")
     return isinstance(node.func, ast.Attribute) and node.func.attr in ("items", "keys", "values")
+
+
+CHANGING = ("append", "clear", "extend", "insert", "pop", "remove", "reverse", "setdefault", "update", "sort")
+WALKERS = ("list", "tuple", "dict", "sorted", "sum", "any", "all", "enumerate", "zip", "min", "max")
+
+
+def drawn_names(tree):
+    """The names that the file draws from others."""
+    return [drawing.asname or drawing.name for node in tree.body if isinstance(node, ast.ImportFrom)
+            for drawing in node.names]
+
+
+def inner_names(tree):
+    """The parameters and locals of the file's defs and lambdas."""
+    found = []
+    for top in tree.body:
+        if isinstance(top, (ast.FunctionDef, ast.ClassDef)):
+            for node in ast.walk(top):
+                if isinstance(node, ast.arg):
+                    found.append(node.arg)
+                elif isinstance(node, ast.Name) and isinstance(node.ctx, (ast.Store, ast.Del)):
+                    found.append(node.id)
+                elif isinstance(node, ast.FunctionDef) and node is not top:
+                    found.append(node.name)
+    return [name for name in found if name not in TWO_UNDERSCORES]
+
+
+def own_errors():
+    """The error classes of the package."""
+    return {node.name for tree in trees().values() for node in tree.body if isinstance(node, ast.ClassDef)}
+
+
+def walked_names(node):
+    """The plain names that a walk goes through, by themselves or within zip and its kin."""
+    if isinstance(node, ast.Name):
+        return [node.id]
+    if is_walk(node) and isinstance(node.func, ast.Name):
+        return [name for inner in node.args for name in walked_names(inner)]
+    if is_walk(node):
+        return walked_names(node.func.value)
+    return []
+
+
+def changed_names(nodes):
+    """The plain names whose lists or dicts these rows change."""
+    found = []
+    for node in [inner for row in nodes for inner in ast.walk(row)]:
+        if isinstance(node, ast.Subscript) and isinstance(node.ctx, (ast.Store, ast.Del)):
+            found.append(node.value)
+        elif isinstance(node, ast.Call) and isinstance(node.func, ast.Attribute) and node.func.attr in CHANGING:
+            found.append(node.func.value)
+    return [node.id for node in found if isinstance(node, ast.Name)]
+
+
+def walks_on_the_spot(tree):
+    """The nodes that stand where zip, range and their kin may stand."""
+    found = []
+    for node in ast.walk(tree):
+        if isinstance(node, (ast.For, ast.comprehension)):
+            found.append(node.iter)
+        elif isinstance(node, ast.Call) and isinstance(node.func, ast.Name):
+            if node.func.id in WALKERS:
+                found.extend(node.args)
+            elif node.func.id == "reversed" and is_walk(node.args[0]) and node.args[0].func.id == "range":
+                found.extend(node.args)
+        elif isinstance(node, ast.Compare) and isinstance(node.ops[0], (ast.In, ast.NotIn)):
+            found.extend(node.comparators)
+    return found
 
 
 class Files(unittest.TestCase):
@@ -163,8 +236,7 @@ class Code(unittest.TestCase):
         own = set(dir(builtins))
         for name, tree in trees().items():
             bound = bound_names(tree)
-            drawn = [drawing.asname or drawing.name for node in tree.body if isinstance(node, ast.ImportFrom)
-                     for drawing in node.names]
+            drawn = drawn_names(tree)
             for word in bound + drawn:
                 if word not in TWO_UNDERSCORES:
                     self.assertRegex(word, r"\A[A-Za-z][A-Za-z0-9_]*\Z", name)
@@ -213,6 +285,63 @@ class Code(unittest.TestCase):
                         if isinstance(sign, (ast.Is, ast.IsNot)):
                             self.assertIsInstance(right, ast.Constant, (name, node.lineno))
                             self.assertTrue(right.value in (None, True, False), (name, node.lineno))
+
+    def test_locals_are_not_called_like_what_is_drawn_or_like_a_class(self):
+        for name, tree in trees().items():
+            classes = [node.name for node in tree.body if isinstance(node, ast.ClassDef)]
+            for word in inner_names(tree):
+                self.assertNotIn(word, drawn_names(tree) + classes, name)
+
+    def test_what_is_called_bears_a_name(self):
+        for name, tree in trees().items():
+            for node in ast.walk(tree):
+                if isinstance(node, ast.Call):
+                    self.assertIsInstance(node.func, (ast.Name, ast.Attribute), (name, node.lineno))
+
+    def test_errors_are_the_programs_own_and_made_on_the_spot(self):
+        for name, tree in trees().items():
+            for node in ast.walk(tree):
+                if isinstance(node, ast.Raise):
+                    self.assertIsInstance(node.exc, ast.Call, (name, node.lineno))
+                    self.assertIn(node.exc.func.id, own_errors(), (name, node.lineno))
+                elif isinstance(node, ast.ExceptHandler):
+                    self.assertIn(node.type.id, own_errors(), (name, node.lineno))
+
+    def test_what_a_loop_walks_is_not_changed_in_it(self):
+        for name, tree in trees().items():
+            for node in ast.walk(tree):
+                if isinstance(node, ast.For):
+                    for word in walked_names(node.iter):
+                        self.assertNotIn(word, changed_names(node.body), (name, node.lineno))
+
+    def test_what_a_file_keeps_at_its_top_is_not_changed(self):
+        for name, tree in trees().items():
+            kept = top_names(tree) + drawn_names(tree)
+            for word in changed_names(tree.body):
+                self.assertNotIn(word, kept, name)
+
+    def test_walks_stand_where_they_are_walked(self):
+        for name, tree in trees().items():
+            spots = walks_on_the_spot(tree)
+            for node in ast.walk(tree):
+                if is_walk(node):
+                    self.assertTrue(any(node is spot for spot in spots), (name, node.lineno))
+
+    def test_no_sets_and_no_two_lambdas_on_one_line(self):
+        for name, tree in trees().items():
+            lambdas = [node.lineno for node in ast.walk(tree) if isinstance(node, ast.Lambda)]
+            self.assertEqual(len(lambdas), len(set(lambdas)), name)
+            for node in ast.walk(tree):
+                self.assertNotIsInstance(node, (ast.Set, ast.SetComp), name)
+                if isinstance(node, ast.Name):
+                    self.assertNotIn(node.id, ("set", "frozenset"), (name, node.lineno))
+
+    def test_escapes(self):
+        for name, text in sources().items():
+            for token in tokenize.generate_tokens(io.StringIO(text).readline):
+                if token.type == tokenize.STRING:
+                    for escape in re.findall(r"\\.", token.string, re.DOTALL):
+                        self.assertIn(escape, ("\\n", "\\t", "\\\\", "\\'", '\\"'), (name, token.start))
 
 
 if __name__ == "__main__":
